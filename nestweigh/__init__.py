@@ -1,0 +1,1 @@
+"""Nestweigh: boxes within boxes that change holders by weight."""

@@ -1,0 +1,1 @@
+"""Tests of nestweigh; they use only what the document's interface names."""
