@@ -1,0 +1,88 @@
+"""The whole program: points [1], [2] and [4], and the names of the interface."""
+
+import importlib
+import unittest
+
+from nestweigh.bags import Bag
+from nestweigh.renamings import Renaming
+from nestweigh.texts import parse_world
+from nestweigh.worlds import World
+from nestweigh.yards import Yard
+from tests.support import Case
+
+FUNCTIONS = {
+    "names": ["is_name", "valid_name", "valid_weight", "ordered", "fresh_name"],
+    "bags": ["arrangements"],
+    "worlds": ["require_same_yard"],
+    "texts": ["format_yard", "format_world", "parse_yard", "parse_world"],
+    "renamings": ["identity", "rename_yard", "rename_world", "rename_deeds"],
+    "holding": [
+        "chain", "is_within", "held", "all_held", "full_weight", "full_weights", "depth", "height", "meeting",
+        "by_weight", "sub_world", "total_weight",
+    ],
+}
+CLASSES = {
+    ("bags", "Bag"): [
+        "__init__", "__iter__", "__len__", "__contains__", "__eq__", "__add__", "__sub__", "numbers", "total",
+        "times", "table", "within", "counted",
+    ],
+    ("yards", "Yard"): [
+        "__init__", "__iter__", "__len__", "__contains__", "__eq__", "shelves", "boxes", "nailed", "sealed",
+        "holders", "own", "is_nailed", "is_sealed", "is_box", "is_shelf", "changed", "MOST_SHELVES", "MOST_BOXES",
+    ],
+    ("worlds", "World"): [
+        "__init__", "__iter__", "__len__", "__eq__", "yard", "row", "holder", "table", "moved", "from_row",
+    ],
+    ("renamings", "Renaming"): [
+        "__init__", "__iter__", "__len__", "__eq__", "__call__", "__invert__", "__mul__", "table",
+    ],
+}
+
+
+class Interface(Case):
+    """[1]: everything stands in the module under whose heading it is listed."""
+
+    def test_functions(self):
+        for module, names in FUNCTIONS.items():
+            for name in names:
+                found = getattr(importlib.import_module(f"nestweigh.{module}"), name)
+                self.assertEqual(found.__module__, f"nestweigh.{module}", name)
+
+    def test_classes_with_all_their_methods(self):
+        for (module, name), parts in CLASSES.items():
+            found = getattr(importlib.import_module(f"nestweigh.{module}"), name)
+            self.assertEqual(found.__module__, f"nestweigh.{module}")
+            for part in parts:
+                self.assertIn(part, vars(found), name)
+
+
+class Objects(Case):
+    """[4]: objects never change."""
+
+    def test_properties_are_not_assigned(self):
+        world = parse_world("shelf a\nbox b 1 in a")
+        for found, names in [
+            (Bag([1]), ["numbers", "total"]),
+            (world.yard, ["shelves", "boxes", "nailed", "sealed", "holders"]),
+            (world, ["yard", "row"]),
+        ]:
+            for name in names:
+                with self.assertRaises(AttributeError):
+                    setattr(found, name, ())
+
+    def test_objects_made_by_equal_calls_are_equal(self):
+        self.assertTrue(Bag([1, 2]) == Bag([1, 2]))
+        self.assertTrue(Yard(["a"], {"b": 1}) == Yard(["a"], {"b": 1}))
+        self.assertTrue(World(Yard(["a"], {"b": 1}), {"b": "a"}) == World(Yard(["a"], {"b": 1}), {"b": "a"}))
+        self.assertTrue(Renaming({"a": "b"}) == Renaming({"a": "b"}))
+
+    def test_objects_of_different_classes_are_not_equal(self):
+        found = [Bag(), Yard(["a"], {"b": 1}), World(Yard(["a"], {"b": 1}), {"b": "a"}), Renaming({})]
+        for first in found:
+            for second in found:
+                self.assert_same(first == second, first is second)
+                self.assert_same(first != second, first is not second)
+
+
+if __name__ == "__main__":
+    unittest.main()
