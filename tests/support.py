@@ -13,6 +13,56 @@ def shape(value):
     return type(value).__name__, value
 
 
+# What may stand in the place of a part of a judged thing [5], nested up to four deep.
+WEIRD = [
+    None, "", "x", "no name", 0, -1, 10**3999, [], (), [None], ("a", "b"), ["a", "b"], ("a", "b", "c"), [("a", "b")],
+    ((("a",),),), [[[["a"]]]], (((("a", 1),),),), [(["a", None],)],
+]
+
+
+def changed_parts(thing, part):
+    """The thing with the part put in the place of each of its inner parts, at each depth."""
+    for at, inner in enumerate(thing):
+        before, after = list(thing[:at]), list(thing[at + 1:])
+        yield type(thing)(before + [part] + after)
+        if type(inner) in (list, tuple):
+            for changed in changed_parts(inner, part):
+                yield type(thing)(before + [changed] + after)
+
+
+def other_kinds(thing):
+    """The thing with each inner list made a tuple and each inner tuple made a list, one at a time."""
+    for at, inner in enumerate(thing):
+        if type(inner) in (list, tuple):
+            before, after = list(thing[:at]), list(thing[at + 1:])
+            yield type(thing)(before + [tuple(inner) if type(inner) is list else list(inner)] + after)
+            for changed in other_kinds(inner):
+                yield type(thing)(before + [changed] + after)
+
+
+def other_lengths(thing):
+    """The thing, and each inner part of it, with an item left out, doubled or put behind."""
+    for at, inner in enumerate(thing):
+        before, after = list(thing[:at]), list(thing[at + 1:])
+        yield type(thing)(before + after)
+        yield type(thing)(before + [inner, inner] + after)
+        if type(inner) in (list, tuple):
+            for changed in other_lengths(inner):
+                yield type(thing)(before + [changed] + after)
+    for part in WEIRD:
+        yield type(thing)(list(thing) + [part])
+
+
+def wrong_things(thing):
+    """Things like a judged one with a part of another value, kind or length."""
+    for part in WEIRD:
+        for changed in changed_parts(thing, part):
+            if changed != thing:
+                yield changed
+    yield from other_kinds(thing)
+    yield from other_lengths(thing)
+
+
 class Case(unittest.TestCase):
     """Checks answers and errors together with what point [4] says of all calls."""
 

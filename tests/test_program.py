@@ -6,6 +6,7 @@ import unittest
 from nestweigh.bags import Bag
 from nestweigh.renamings import Renaming
 from nestweigh.texts import parse_world
+from nestweigh.webs import Web
 from nestweigh.worlds import World
 from nestweigh.yards import Yard
 from tests.support import Case
@@ -19,6 +20,17 @@ FUNCTIONS = {
     "holding": [
         "chain", "is_within", "held", "all_held", "full_weight", "full_weights", "depth", "height", "meeting",
         "by_weight", "sub_world", "total_weight",
+    ],
+    "deeds": ["why_refused", "is_possible", "exchange", "possible_deeds", "partners"],
+    "histories": [
+        "replay", "judged", "walk", "worlds_along", "reversed_deeds", "reduced", "without_loops", "joined", "cut",
+        "trail", "moving",
+    ],
+    "slots": [
+        "is_free", "free_boxes", "fixed_boxes", "bag", "bags", "free_weights", "pool", "slots", "mark",
+    ],
+    "passage": [
+        "bar", "comes", "is_bar", "history", "is_history", "verdict", "is_verdict", "grouped",
     ],
 }
 CLASSES = {
@@ -35,6 +47,10 @@ CLASSES = {
     ],
     ("renamings", "Renaming"): [
         "__init__", "__iter__", "__len__", "__eq__", "__call__", "__invert__", "__mul__", "table",
+    ],
+    ("webs", "Web"): [
+        "__init__", "__iter__", "__len__", "__eq__", "arrows", "most", "circuits", "table", "is_circuit", "is_trail",
+        "is_split", "is_bound", "parts", "closed_trails", "MOST_SEARCHED",
     ],
 }
 
@@ -65,6 +81,7 @@ class Objects(Case):
             (Bag([1]), ["numbers", "total"]),
             (world.yard, ["shelves", "boxes", "nailed", "sealed", "holders"]),
             (world, ["yard", "row"]),
+            (Web([]), ["arrows"]),
         ]:
             for name in names:
                 with self.assertRaises(AttributeError):
@@ -75,9 +92,11 @@ class Objects(Case):
         self.assertTrue(Yard(["a"], {"b": 1}) == Yard(["a"], {"b": 1}))
         self.assertTrue(World(Yard(["a"], {"b": 1}), {"b": "a"}) == World(Yard(["a"], {"b": 1}), {"b": "a"}))
         self.assertTrue(Renaming({"a": "b"}) == Renaming({"a": "b"}))
+        self.assertTrue(Web([("a", "b", "c"), ("b", "c", "b")]) == Web([("a", "b", "c"), ("b", "c", "b")]))
 
     def test_objects_of_different_classes_are_not_equal(self):
-        found = [Bag(), Yard(["a"], {"b": 1}), World(Yard(["a"], {"b": 1}), {"b": "a"}), Renaming({})]
+        yard = Yard(["a"], {"b": 1})
+        found = [Bag(), yard, World(yard, {"b": "a"}), Renaming({}), Web([])]
         for first in found:
             for second in found:
                 self.assert_same(first == second, first is second)
