@@ -31,6 +31,11 @@ def is_number(value, low, high):
     return isinstance(value, int) and not isinstance(value, bool) and low <= value <= high
 
 
+def is_from_zero(value):
+    """Tell whether the value is an integer from 0 on, of any size; True and False are none [2]."""
+    return isinstance(value, int) and not isinstance(value, bool) and value >= 0
+
+
 def valid_weight(weight):
     """Return the own weight [8]; raise BadWeight if it is none."""
     if not is_number(weight, 1, MOST_WEIGHT):

@@ -91,3 +91,21 @@ def rows_after(yard, row, most):
 
 def is_free(yard, row, box):
     return box not in yard.nailed and dict(zip(yard.boxes, row))[box] not in yard.sealed
+
+
+# Worlds of small classes: one world alone, pools without and with levers, several pools at once,
+# nails and seals, boxes within boxes.
+CLASSES = [
+    "shelf a\nshelf b\nbox k 1 in a\nbox l 1 in a\nbox m 2 in b",
+    "shelf a\nshelf b sealed\nbox k 1 in a\nbox l 1 in b\nbox m 1 in a nailed",
+    "shelf a\nshelf b\nbox k 3 in a\nbox m 2 in b\nbox n 1 in m\nbox t 1 in a",
+    "shelf a\nshelf b\nbox k 1 in a\nbox l 1 in a\nbox m 1 in b",
+    "shelf a\nshelf b\nbox k 1 in a\nbox l 1 in a\nbox m 1 in b\nbox n 1 in b",
+    "shelf a\nshelf b\nshelf c\nbox k 1 in a\nbox l 1 in b\nbox m 1 in c\nbox n 1 in c",
+    "shelf a\nshelf b\nshelf c\nbox k 1 in a\nbox l 1 in b\nbox m 1 in c",
+    "shelf a\nshelf b\nbox e 1 in a\nbox f 1 in b\nbox g 2 in a\nbox h 2 in a\nbox i 2 in b",
+    "shelf a\nshelf b\nbox e 1 in a\nbox f 1 in b nailed\nbox g 1 in b\nbox h 2 in a\nbox i 2 in a\nbox j 2 in b",
+    "shelf a\nbox h 3 in a\nbox i 2 in a\nbox j 1 in h\nbox l 1 in i\nbox m 1 in i\nbox n 4 in a\nbox o 1 in a",
+    "shelf a\nshelf b sealed\nbox h 2 in a\nbox i 2 in a\nbox j 1 in h\nbox l 1 in i\nbox m 1 in b\nbox o 3 in b",
+    "shelf a\nshelf b\nshelf c\nshelf d\nbox k 1 in a\nbox l 1 in b\nbox m 1 in c\nbox n 1 in d",
+]

@@ -32,6 +32,18 @@ FUNCTIONS = {
     "passage": [
         "bar", "comes", "is_bar", "history", "is_history", "verdict", "is_verdict", "grouped",
     ],
+    "fewest": [
+        "moving_weights", "web_of", "circuit_deeds", "fewest", "shortest", "certificate", "is_certificate",
+    ],
+    "lengths": ["levers", "companions", "lengths", "can_take", "next_length", "history_of_length"],
+    "classes": [
+        "factors", "count", "rank", "world_at", "least", "following", "listed", "neighbours", "distances",
+        "farthest", "between",
+    ],
+    "may": [
+        "may_hold", "must_hold", "may_within", "must_within", "depths", "deepest", "rising_chain", "is_chain",
+        "closed_set", "is_closed_set", "world_of_chain",
+    ],
 }
 CLASSES = {
     ("bags", "Bag"): [
