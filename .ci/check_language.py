@@ -34,6 +34,10 @@ NO_NODES = (
 PLAIN = (ast.Constant, ast.List, ast.Tuple, ast.Dict, ast.Name, ast.Load, ast.UnaryOp, ast.USub, ast.BinOp, ast.Add)
 DECORATORS = ("property", "classmethod", "staticmethod")
 LISTS_ONLY = ("any", "all", "min", "max", "sum", "sorted")
+CHANGES = (
+    "append add clear discard extend insert pop remove reverse setdefault sort update heappush heappop heapify".split()
+)
+LOOPS = (ast.For, ast.ListComp, ast.SetComp, ast.DictComp, ast.GeneratorExp)
 
 
 def check_text(text):
@@ -140,6 +144,91 @@ def check_nodes(tree):
                 yield node.lineno, f"L7 {name} of a generator in a package with __eq__"
 
 
+def check_loops(tree):
+    """Faults of loops: L23, what a loop iterates over is changed in it, by another name too."""
+    for function in ast.walk(tree):
+        if isinstance(function, ast.FunctionDef):
+            kept = same_values(function)
+            for loop in ast.walk(function):
+                if isinstance(loop, LOOPS):
+                    walked = {other for place in walked_places(loop) for other in kept.get(place, {place})}
+                    for number, place in changed_places(loop):
+                        if place in walked:
+                            yield number, f"L23 {place} is changed in a loop that iterates over it"
+
+
+def same_values(function):
+    """For each place of the function that is assigned another one: all places that may be the same value."""
+    found = {}
+    for node in ast.walk(function):
+        if isinstance(node, (ast.Assign, ast.NamedExpr)):
+            targets = node.targets if isinstance(node, ast.Assign) else [node.target]
+            sides = [pair for target in targets for pair in zip(*paired(target, node.value))]
+            # Several targets of one statement get one value: `low = high = []`.
+            sides += list(zip(targets, targets[1:]))
+            for first, second in sides:
+                group = set().union(*[found.get(place, {place}) for place in places(first) + places(second)])
+                found.update({place: group for place in group})
+    return found
+
+
+def paired(target, value):
+    """The targets and the values of an assignment, side by side where it has several."""
+    if isinstance(target, (ast.Tuple, ast.List)) and isinstance(value, (ast.Tuple, ast.List)):
+        if len(target.elts) == len(value.elts):
+            return target.elts, value.elts
+    return [target], [value]
+
+
+def places(node):
+    """The names, attributes and items whose value an expression may be."""
+    if isinstance(node, ast.Name):
+        return [node.id]
+    if isinstance(node, ast.Attribute):
+        return [f".{node.attr}"]
+    if isinstance(node, ast.Subscript) and not isinstance(node.slice, ast.Slice):
+        return [ast.unparse(node)]
+    if isinstance(node, ast.IfExp):
+        return places(node.body) + places(node.orelse)
+    if isinstance(node, ast.BoolOp):
+        return [place for part in node.values for place in places(part)]
+    return []
+
+
+def walked_places(loop):
+    """What a loop or a comprehension iterates over, through enumerate, zip, items and the like too."""
+    sources = [loop.iter] if isinstance(loop, ast.For) else [part.iter for part in loop.generators]
+    found = []
+    while sources:
+        source = sources.pop()
+        if isinstance(source, ast.Call) and isinstance(source.func, ast.Name):
+            if source.func.id in ("enumerate", "zip", "reversed", "iter", "map"):
+                sources += source.args
+        elif isinstance(source, ast.Call) and isinstance(source.func, ast.Attribute):
+            if source.func.attr in ("items", "keys", "values"):
+                sources.append(source.func.value)
+        else:
+            found += places(source)
+    return found
+
+
+def changed_places(loop):
+    """What is changed inside a loop or a comprehension, each with its line."""
+    parts = loop.body if isinstance(loop, ast.For) else [loop]
+    for node in [inner for part in parts for inner in ast.walk(part)]:
+        changed = []
+        if isinstance(node, ast.Call) and isinstance(node.func, ast.Attribute) and node.func.attr in CHANGES:
+            changed = places(node.func.value)
+        elif isinstance(node, ast.Call) and isinstance(node.func, ast.Name) and node.func.id in CHANGES:
+            changed = places(node.args[0]) if node.args else []
+        elif isinstance(node, ast.Subscript) and not isinstance(node.ctx, ast.Load):
+            changed = places(node.value)
+        elif isinstance(node, ast.AugAssign):
+            changed = places(node.target)
+        for place in changed:
+            yield node.lineno, place
+
+
 def main():
     """Print each breach, and end with 1 if there is one."""
     found = []
@@ -151,8 +240,9 @@ def main():
             continue
         text = path.read_bytes().decode("ascii")
         tree = ast.parse(text)
-        for check, given in ((check_text, text), (check_imports, tree), (check_names, tree), (check_nodes, tree)):
-            found += [(path.name, line, fault) for line, fault in check(given)]
+        found += [(path.name, line, fault) for line, fault in check_text(text)]
+        for check in (check_imports, check_names, check_nodes, check_loops):
+            found += [(path.name, line, fault) for line, fault in check(tree)]
     for name, line, fault in found:
         print(f"nestweigh/{name}:{line}: {fault}")
     sys.exit(1 if found else 0)

@@ -167,15 +167,11 @@ def _has_room(row, peers, place, many):
 def _steps_by_row(world):
     """Return a dict from the row of each world of the class to its distance from the world."""
     found = {world.row: 0}
-    ring = [world]
-    number = 0
-    while len(ring) > 0:
-        number += 1
-        after = []
-        for here in ring:
-            for other in neighbours(here):
-                if other.row not in found:
-                    found[other.row] = number
-                    after.append(other)
-        ring = after
+    queue = [world]
+    while len(queue) > 0:
+        here = queue.pop(0)
+        for other in neighbours(here):
+            if other.row not in found:
+                found[other.row] = found[here.row] + 1
+                queue.append(other)
     return found
