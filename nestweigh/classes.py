@@ -67,7 +67,7 @@ def following(world):
 
 def listed(world):
     """Return all worlds of the class, ascending."""
-    _require_few(world, MOST_LISTED)
+    require_few(world, MOST_LISTED)
     return [World.from_row(world.yard, row) for row in _rows(world)]
 
 
@@ -79,7 +79,7 @@ def neighbours(world):
 
 def distances(world):
     """Return for each rank the distance [45] from the world to the world of this rank."""
-    _require_few(world, MOST_MEASURED)
+    require_few(world, MOST_MEASURED)
     steps = _steps_by_row(world)
     return [steps[row] for row in _rows(world)]
 
@@ -97,7 +97,7 @@ def between(start, goal):
     return [found for at, found in enumerate(listed(start)) if before[at] + after[at] == whole]
 
 
-def _require_few(world, limit):
+def require_few(world, limit):
     """Raise TooMany if the class has more worlds than the limit."""
     many = count(world)
     if many > limit:

@@ -5,6 +5,7 @@ from nestweigh.errors import BadWish, Same
 from nestweigh.holding import full_weights
 from nestweigh.judging import are_strings
 from nestweigh.slots import free_weights, is_free, pool, slots
+from nestweigh.ways import is_closed, reached, shortest_way
 from nestweigh.yards import require_box, require_holder
 
 
@@ -23,7 +24,7 @@ def must_hold(world, box):
 def may_within(world, box):
     """Return the holders that the box may lie within [47], ascending."""
     require_box(world.yard, box)
-    return _reached(_steps(world), box, None)
+    return reached(_steps(world), box, None)
 
 
 def must_within(world, box):
@@ -31,8 +32,8 @@ def must_within(world, box):
     require_box(world.yard, box)
     steps = _steps(world)
     found = []
-    for holder in _reached(steps, box, None):
-        others = _reached(steps, box, holder)
+    for holder in reached(steps, box, None):
+        others = reached(steps, box, holder)
         if not any([world.yard.is_shelf(name) for name in others]):
             found.append(holder)
     return found
@@ -53,16 +54,7 @@ def deepest(world):
 def rising_chain(world, box, holder):
     """Return a rising chain [47] with the fewest names, None if there is none."""
     _require_two(world, box, holder)
-    steps = _steps(world)
-    found = {box: [box]}
-    queue = [box]
-    while len(queue) > 0:
-        here = queue.pop(0)
-        for place in steps.get(here, []):
-            if place not in found:
-                found[place] = found[here] + [place]
-                queue.append(place)
-    return found.get(holder, None)
+    return shortest_way(_steps(world), box, holder)
 
 
 def is_chain(world, box, holder, names):
@@ -86,14 +78,9 @@ def closed_set(world, box, holder):
 def is_closed_set(world, box, holder, names):
     """Tell whether the names prove that the box may not lie within the holder."""
     _require_two(world, box, holder)
-    if not are_strings(names) or list(names) != sorted(set(names)):
-        return False
     if box not in names or holder in names:
         return False
-    if not all([name in world.yard.holders for name in names]):
-        return False
-    steps = _steps(world)
-    return all([place in names for name in names for place in steps.get(name, [])])
+    return is_closed(_steps(world), world.yard.holders, names)
 
 
 def world_of_chain(world, names):
@@ -127,19 +114,6 @@ def _steps(world):
     loads = full_weights(world)
     places = {weight: list(slots(world, weight)) for weight in free_weights(world)}
     return {box: places[loads[box]] if is_free(world, box) else [world.holder(box)] for box in world}
-
-
-def _reached(steps, box, barred):
-    """Return all that rising chains from the box lead to without the barred name, ascending."""
-    found = []
-    queue = [box]
-    while len(queue) > 0:
-        here = queue.pop()
-        for place in steps.get(here, []):
-            if place != barred and place not in found:
-                found.append(place)
-                queue.append(place)
-    return sorted(found)
 
 
 def _depths(steps, name):

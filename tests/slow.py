@@ -109,3 +109,16 @@ CLASSES = [
     "shelf a\nshelf b sealed\nbox h 2 in a\nbox i 2 in a\nbox j 1 in h\nbox l 1 in i\nbox m 1 in b\nbox o 3 in b",
     "shelf a\nshelf b\nshelf c\nshelf d\nbox k 1 in a\nbox l 1 in b\nbox m 1 in c\nbox n 1 in d",
 ]
+
+
+def holds(yard, row, wish):
+    """Whether the wish holds in the world of the row."""
+    word, box, holder = wish
+    places = above(yard, row, box)
+    return holder == places[0] if word == "in" else holder in places
+
+
+def all_wishes(yard):
+    """All wishes of the yard, right and wrong ones of the rows alike."""
+    names = itertools.product(["in", "within"], yard.boxes, yard.holders)
+    return [wish for wish in names if wish[1] != wish[2]]

@@ -3,14 +3,33 @@
 import copy
 import unittest
 
+from nestweigh.diaries import Diary
+from nestweigh.pieces import Surrounding
+
 
 def shape(value):
-    """The value together with the exact kinds of all its parts, the order of dicts included."""
+    """The value together with the exact kinds of all its parts, the order of dicts included.
+
+    Objects without an == are taken apart: they are equal if equal calls made them [4].
+    """
     if type(value) in (list, tuple):
         return type(value).__name__, [shape(part) for part in value]
     if type(value) is dict:
         return "dict", [(shape(key), shape(part)) for key, part in value.items()]
+    if type(value) is Diary:
+        return "Diary", shape([value.world, value.gaps(), value.sightings(), value.from_start])
+    if type(value) is Surrounding:
+        return "Surrounding", shape([value.world, value.places()])
     return type(value).__name__, value
+
+
+def spoil(value):
+    """Empty the value, if it is a list or a dict, and all lists and dicts in it."""
+    if type(value) in (list, tuple, dict):
+        for part in list(value.values()) if type(value) is dict else value:
+            spoil(part)
+    if type(value) in (list, dict):
+        value.clear()
 
 
 # What may stand in the place of a part of a judged thing [5], nested up to four deep.
@@ -75,8 +94,7 @@ class Case(unittest.TestCase):
         passed = copy.deepcopy((args, more))
         first = call(*args, **more)
         self.assert_same(first, wanted)
-        if type(first) in (list, dict):
-            first.clear()
+        spoil(first)
         second = call(*args, **more)
         self.assert_same(second, wanted)
         if type(first) in (list, dict):

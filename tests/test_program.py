@@ -4,6 +4,8 @@ import importlib
 import unittest
 
 from nestweigh.bags import Bag
+from nestweigh.diaries import Diary
+from nestweigh.pieces import Piece, Surrounding
 from nestweigh.renamings import Renaming
 from nestweigh.texts import parse_world
 from nestweigh.webs import Web
@@ -44,6 +46,16 @@ FUNCTIONS = {
         "may_hold", "must_hold", "may_within", "must_within", "depths", "deepest", "rising_chain", "is_chain",
         "closed_set", "is_closed_set", "world_of_chain",
     ],
+    "wishes": ["holds", "unmet", "grant", "is_granted", "is_denied", "count_granted", "may_given"],
+    "sameness": [
+        "kind", "card", "form", "class_form", "alike", "class_alike", "likeness", "class_likeness", "is_likeness",
+        "is_class_likeness", "likenesses", "class_likenesses", "difference", "class_difference",
+    ],
+    "pieces": ["glue", "piece_mark", "alike_everywhere", "telling", "is_telling"],
+    "diaries": [
+        "struck", "story", "is_story", "possible", "may_at", "must_at", "first_unfit", "cost_table", "fewest_wrong",
+        "wrong_set", "is_wrong_set", "is_cost_table",
+    ],
 }
 CLASSES = {
     ("bags", "Bag"): [
@@ -64,6 +76,9 @@ CLASSES = {
         "__init__", "__iter__", "__len__", "__eq__", "arrows", "most", "circuits", "table", "is_circuit", "is_trail",
         "is_split", "is_bound", "parts", "closed_trails", "MOST_SEARCHED",
     ],
+    ("pieces", "Piece"): ["__init__", "__eq__", "__add__", "world", "doors"],
+    ("pieces", "Surrounding"): ["__init__", "world", "place", "places"],
+    ("diaries", "Diary"): ["__init__", "world", "moments", "from_start", "gaps", "sightings"],
 }
 
 
@@ -94,6 +109,9 @@ class Objects(Case):
             (world.yard, ["shelves", "boxes", "nailed", "sealed", "holders"]),
             (world, ["yard", "row"]),
             (Web([]), ["arrows"]),
+            (Piece(world), ["world", "doors"]),
+            (Surrounding(world, {}), ["world"]),
+            (Diary(world, [], []), ["world", "moments", "from_start"]),
         ]:
             for name in names:
                 with self.assertRaises(AttributeError):
@@ -105,10 +123,12 @@ class Objects(Case):
         self.assertTrue(World(Yard(["a"], {"b": 1}), {"b": "a"}) == World(Yard(["a"], {"b": 1}), {"b": "a"}))
         self.assertTrue(Renaming({"a": "b"}) == Renaming({"a": "b"}))
         self.assertTrue(Web([("a", "b", "c"), ("b", "c", "b")]) == Web([("a", "b", "c"), ("b", "c", "b")]))
+        self.assertTrue(Piece(parse_world("shelf a\nbox b 1 in a")) == Piece(parse_world("shelf a\nbox b 1 in a")))
 
     def test_objects_of_different_classes_are_not_equal(self):
         yard = Yard(["a"], {"b": 1})
-        found = [Bag(), yard, World(yard, {"b": "a"}), Renaming({}), Web([])]
+        world = World(yard, {"b": "a"})
+        found = [Bag(), yard, world, Renaming({}), Web([]), Piece(world), Surrounding(world, {}), Diary(world, [], [])]
         for first in found:
             for second in found:
                 self.assert_same(first == second, first is second)
