@@ -6,7 +6,7 @@ from nestweigh.holding import full_weight, full_weights, held
 from nestweigh.names import fresh_name, valid_name
 from nestweigh.slots import free_boxes, free_weights, pool
 from nestweigh.worlds import World
-from nestweigh.yards import Yard, require_holder
+from nestweigh.yards import Yard, own_weights, require_holder
 
 MOST_DOORS = 3
 MOST_PIECE_BOXES = 8
@@ -155,10 +155,12 @@ def _require_same_doors(first, second):
 
 def _world_of_both(outer, inner, table):
     """Return the world on the outer shelves with the boxes of both worlds and these holders."""
-    weights = {box: world.yard.own(box) for world in (outer, inner) for box in world}
     first, second = outer.yard, inner.yard
     yard = Yard(
-        first.shelves, weights, nailed=first.nailed + second.nailed, sealed=first.sealed + second.sealed
+        first.shelves,
+        {**own_weights(first), **own_weights(second)},
+        nailed=first.nailed + second.nailed,
+        sealed=first.sealed + second.sealed,
     )
     return World(yard, table)
 
@@ -182,7 +184,8 @@ def _beside(first, second, weight, is_nailed, door):
 
     The box lies on the shelf of the door, or on a shelf of its own if the door is None.
     """
-    box, *shelves = _new_names(first, second, 2 + len(first.doors))
+    names = _new_names(first, second, 2 + len(first.doors))
+    box, shelves = names[0], names[1:]
     places = dict(zip(first.doors, shelves))
     yard = Yard(shelves, {box: weight}, nailed=[box] if is_nailed else [])
     return Surrounding(World(yard, {box: places.get(door, shelves[-1])}), places)
@@ -193,7 +196,8 @@ def _scales(first, second, door, total):
 
     The two have the same full weight just if the full weight of the door is the total.
     """
-    loaded, other, *shelves = _new_names(first, second, 3 + len(first.doors))
+    names = _new_names(first, second, 3 + len(first.doors))
+    loaded, other, shelves = names[0], names[1], names[2:]
     places = dict(zip(first.doors, shelves))
     table = {loaded: places[door], other: shelves[-1]}
     places[door] = loaded

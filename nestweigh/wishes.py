@@ -9,7 +9,7 @@ from nestweigh.passage import comes
 from nestweigh.slots import free_weights, is_free, pool, slots
 from nestweigh.ways import is_closed, reached, shortest_way
 from nestweigh.worlds import World
-from nestweigh.yards import require_box
+from nestweigh.yards import is_holder, require_box
 
 
 def holds(world, wish):
@@ -95,7 +95,7 @@ def is_wish(yard, parts):
     if len(parts) != 3 or parts[0] not in ("in", "within"):
         return False
     _, box, holder = parts
-    return yard.is_box(box) and (yard.is_box(holder) or yard.is_shelf(holder)) and box != holder
+    return yard.is_box(box) and is_holder(yard, holder) and box != holder
 
 
 def wish_holds(world, wish):

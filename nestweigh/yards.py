@@ -107,10 +107,20 @@ def require_box(yard, name):
         raise Unknown(name)
 
 
+def is_holder(yard, name):
+    """Tell whether the string is the name of a shelf or a box of the yard."""
+    return yard.is_box(name) or yard.is_shelf(name)
+
+
 def require_holder(yard, name):
     """Raise Unknown if the name is neither a shelf nor a box of the yard."""
-    if not yard.is_box(name) and not yard.is_shelf(name):
+    if not is_holder(yard, name):
         raise Unknown(name)
+
+
+def own_weights(yard):
+    """Return a dict from each box to its own weight, with the keys ascending."""
+    return {box: yard.own(box) for box in yard}
 
 
 def _require_count(what, many, most):

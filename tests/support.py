@@ -3,6 +3,7 @@
 import copy
 import unittest
 
+from nestweigh.books import Book
 from nestweigh.diaries import Diary
 from nestweigh.pieces import Surrounding
 
@@ -18,6 +19,8 @@ def shape(value):
         return "dict", [(shape(key), shape(part)) for key, part in value.items()]
     if type(value) is Diary:
         return "Diary", shape([value.world, value.gaps(), value.sightings(), value.from_start])
+    if type(value) is Book:
+        return "Book", shape([value.origin, value.world, value.entries(), value.claims(), value.steps, len(value)])
     if type(value) is Surrounding:
         return "Surrounding", shape([value.world, value.places()])
     return type(value).__name__, value

@@ -159,6 +159,14 @@ class Chains(Case):
             self.assert_same(len(names), many)
             self.assert_answer(True, is_chain, tower(), box, holder, names)
 
+    def test_a_short_chain_beside_a_long_one(self):
+        # u may lie in q or r; q lies in x at once, and r within it alone.
+        world = parse_world(
+            "shelf a\nbox q 3 in x\nbox r 4 in y\nbox u 1 in q\nbox v 1 in r\nbox x 1 in a\nbox y 5 in x"
+        )
+        self.assert_answer(["u", "q", "x"], rising_chain, world, "u", "x")
+        self.assert_answer(["u", "r", "y"], rising_chain, world, "u", "y")
+
     def test_no_chain(self):
         for box, holder in [("u", "c"), ("u", "s"), ("y", "z"), ("q", "u"), ("f", "a"), ("x", "q"), ("u", "v")]:
             self.assert_answer(None, rising_chain, tower(), box, holder)

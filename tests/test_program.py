@@ -1,9 +1,11 @@
 """The whole program: points [1], [2] and [4], and the names of the interface."""
 
 import importlib
+import inspect
 import unittest
 
 from nestweigh.bags import Bag
+from nestweigh.books import Book
 from nestweigh.diaries import Diary
 from nestweigh.pieces import Piece, Surrounding
 from nestweigh.renamings import Renaming
@@ -56,6 +58,14 @@ FUNCTIONS = {
         "struck", "story", "is_story", "possible", "may_at", "must_at", "first_unfit", "cost_table", "fewest_wrong",
         "wrong_set", "is_wrong_set", "is_cost_table",
     ],
+    "repairs": [
+        "nails_to_draw", "seals_to_break", "unequal_holders", "weighings", "least_repair", "repaired", "is_repair",
+    ],
+    "orders": ["parse_program", "format_program", "statements", "blocks", "names_used", "rename_program"],
+    "running": ["run", "outcome", "partner_for", "first_unlike", "as_program"],
+    "audits": [
+        "claim_holds", "worlds_of", "standing", "broken_at", "audit", "compare", "format_book", "parse_book",
+    ],
 }
 CLASSES = {
     ("bags", "Bag"): [
@@ -79,6 +89,24 @@ CLASSES = {
     ("pieces", "Piece"): ["__init__", "__eq__", "__add__", "world", "doors"],
     ("pieces", "Surrounding"): ["__init__", "world", "place", "places"],
     ("diaries", "Diary"): ["__init__", "world", "moments", "from_start", "gaps", "sightings"],
+    ("books", "Book"): [
+        "__init__", "__len__", "world", "origin", "steps", "entries", "claims", "exchange", "carry", "run", "bring",
+        "take", "weigh", "nail", "draw", "seal", "unseal", "file", "do", "undo", "twin", "replayed",
+    ],
+}
+
+# The parameters behind a bare * [2]; all others are passed by position.
+KEYWORDS = {
+    "names.fresh_name": ["stem"],
+    "yards.Yard.__init__": ["nailed", "sealed"],
+    "yards.Yard.changed": ["boxes", "nailed", "sealed"],
+    "diaries.Diary.__init__": ["from_start"],
+    "repairs.repaired": ["nails", "seals", "weights"],
+    "running.run": ["steps"],
+    "running.outcome": ["steps"],
+    "running.first_unlike": ["steps"],
+    "books.Book.run": ["steps"],
+    "books.Book.bring": ["nailed", "sealed"],
 }
 
 
@@ -98,6 +126,20 @@ class Interface(Case):
             for part in parts:
                 self.assertIn(part, vars(found), name)
 
+    def test_parameters_that_are_passed_by_keyword(self):
+        calls = {f"{module}.{name}": getattr(importlib.import_module(f"nestweigh.{module}"), name)
+                 for module, names in FUNCTIONS.items() for name in names}
+        for (module, name), parts in CLASSES.items():
+            found = getattr(importlib.import_module(f"nestweigh.{module}"), name)
+            for part in parts:
+                if inspect.isroutine(getattr(found, part)):
+                    calls[f"{module}.{name}.{part}"] = getattr(found, part)
+        for place, call in calls.items():
+            parameters = inspect.signature(call).parameters.values()
+            found = [parameter.name for parameter in parameters if parameter.kind is parameter.KEYWORD_ONLY]
+            self.assertEqual(found, KEYWORDS.get(place, []), place)
+        self.assertLessEqual(set(KEYWORDS), set(calls))
+
 
 class Objects(Case):
     """[4]: objects never change."""
@@ -112,6 +154,7 @@ class Objects(Case):
             (Piece(world), ["world", "doors"]),
             (Surrounding(world, {}), ["world"]),
             (Diary(world, [], []), ["world", "moments", "from_start"]),
+            (Book(world), ["world", "origin"]),
         ]:
             for name in names:
                 with self.assertRaises(AttributeError):
