@@ -110,11 +110,7 @@ class Diaries(Case):
                 self.assert_error(BadWish, {"at": at}, diary, [(0, 1), (0, 1)], seen)
 
     def test_the_first_error_is_told(self):
-        great = four_apart(4)
-        many = World(Yard(["s", "t", "u"], {name: 1 for name in "klmn"}), dict(zip("klmn", "stuu")))
-        self.assert_same(count(many), 12)
-        self.assert_same(Diary(great, [], []).world, great)
-        more = World(Yard(["s", "t"], {name: 1 for name in NAMES[:7]}), dict(zip(NAMES, "sssstt" + "t")))
+        more = World(Yard(["s", "t"], {name: 1 for name in NAMES[:7]}), dict(zip(NAMES, "ssssttt")))
         self.assert_error(TooMany, {"many": 35, "limit": 24}, Diary, more, [(9, 9)] * 8, [()] * 13)
         self.assert_error(BadCount, {"what": "gaps", "many": 8}, diary, [(9, 9)] * 8, [(9, "in")] * 13)
         self.assert_error(BadNumber, {"number": 9}, diary, [(9, 9)] * 7, [(9, "in")] * 13)
@@ -123,9 +119,10 @@ class Diaries(Case):
     def test_classes_of_24_worlds_and_more(self):
         self.assert_same(count(four_apart(4)), 24)
         self.assert_same(Diary(four_apart(4), [(3, 3)], []).moments, 2)
-        # 25 is the square of a prime number above 4 and of no class; 28 is the next count here.
-        more = World(Yard(["s", "t"], {name: 1 for name in NAMES[:8]}), dict(zip(NAMES, "sssssstt")))
-        self.assert_error(TooMany, {"many": 28, "limit": 24}, Diary, more, [], [])
+        # Two pools of five boxes, one of which lies alone in each.
+        yard = Yard(["s", "t"], {name: 1 if at < 5 else 2 for at, name in enumerate(NAMES[:10])})
+        self.assert_error(TooMany, {"many": 25, "limit": 24}, Diary, World.from_row(yard, "sssst" * 2), [], [])
+        self.assert_error(TooMany, {"many": 25, "limit": 24}, Diary, World.from_row(yard, "sstss" * 2), [(0, 9)], [()])
 
     def test_later_changes(self):
         gaps, seen = [(1, 1)], [SEEN[0]]

@@ -341,8 +341,10 @@ class Unlike(Case):
         self.assert_same(count(twelve), 12)
         self.assert_unlike(None, "exchange k l", "exchange l k", twelve)
         self.assert_unlike(11, "", "if k in u\nif l in u\nif m in t\nexchange k m\nend\nend\nend", twelve)
-        more = World(Yard(list("st"), {name: 1 for name in "klmnop"}), dict(zip("klmnop", "sssstt")))
-        self.assert_error(TooMany, {"many": 15, "limit": 12}, first_unlike, (), (), more)
+        # 13 is a prime number above 12, so that no class has 13 worlds.
+        yard = Yard(list("st"), {name: 1 if at < 7 else 2 for at, name in enumerate("klmnopqrx")})
+        more = World.from_row(yard, "sssssstst")
+        self.assert_error(TooMany, {"many": 14, "limit": 12}, first_unlike, (), (), more)
         self.assert_error(BadNumber, {"number": 61}, first_unlike, (), (), more, steps=61)
 
 
